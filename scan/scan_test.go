@@ -253,6 +253,8 @@ func TestTheLastLSN(t *testing.T) {
 		t.Fatalf("the chain ends at %d", end.Next)
 	}
 	wantScan(t, "P7.1: up to the last LSN", c.bytes, lastLSN-1, 3, end)
+	one := chainOf(lastLSN, 3, []byte("a"))
+	wantScan(t, "P7.1: the last LSN alone", one.bytes, lastLSN, 3, one.stands(lastLSN, 1, api.WhyEnd))
 	// A frame behind the last LSN can only have a wrong one.
 	for why, lsn := range map[int]int64{api.WhyForm: math.MaxInt64, api.WhyLSN: lastLSN} {
 		f, _ := plainFrame(c.seeds[2], 0, lsn, nil)
